@@ -1,0 +1,1 @@
+"""Purseweb: houses that lend to all their neighbours at once."""
