@@ -162,7 +162,8 @@ class FormTest(unittest.TestCase):
             "_a = 1", "list = 1", "def f(id):\n    return 1", "a = map", "a = b.sort()", "a = b is c", "a = b is 1",
             "a = [k for k in b for c in k]", "a = [k for k in b if k if c]", "a = f'{b.c}'", "# type",
             "a = 'dataclasses'", "# caf\u00e9", "a = 1\t", "for a in b:\n    pass", "with a:\n    pass",
-            "def f():\n    del a", "def f():\n    assert a", "def f():\n    for a in b:\n        pass\n    else:\n        pass",
+            "def f():\n    del a", "def f():\n    assert a",
+            "def f():\n    for a in b:\n        pass\n    else:\n        pass",
             "def f():\n    try:\n        pass\n    finally:\n        pass", "def f():\n" + "    f()\n" * 40,
             "# " + "a" * 120, "a = 1\n" * 401, "a = (b := 1)", "a = [*b]", "a = b'c'",
         ):
