@@ -1,7 +1,11 @@
-"""What several test files need: refusals taken and looked at, and some webs."""
+"""What several test files need: refusals taken and looked at, some webs and purses, and things reckoned apart from
+the program."""
 
 import copy
+import fractions
+import functools
 import itertools
+import random
 
 from purseweb import errors
 
@@ -21,8 +25,105 @@ TRIANGLE = ((0, 1, 1), (1, 0, 1), (1, 1, 0))
 LOPSIDED = ((0, 1, 3, 0), (1, 0, 0, 0), (3, 0, 0, 1), (0, 0, 1, 0))
 FULL = tuple(tuple(0 if a == b else 9 for b in range(7)) for a in range(7))
 WEBS = (LONE, PAIR, THICK_PAIR, PATH, TRIANGLE, LOPSIDED, FULL)
+SMALL_WEBS = [web for web in WEBS if len(web) < 5]
+
+# Webs of seven houses and thirty ties on which much is left to be lent, even near the settled purse.
+THIRTY_TIES = (
+    (
+        (0, 1, 0, 1, 0, 9, 7), (1, 0, 0, 0, 0, 1, 9), (0, 0, 0, 1, 0, 0, 0), (1, 0, 1, 0, 0, 0, 0),
+        (0, 0, 0, 0, 0, 0, 1), (9, 1, 0, 0, 0, 0, 0), (7, 9, 0, 0, 1, 0, 0),
+    ),
+    (
+        (0, 1, 0, 0, 0, 5, 0), (1, 0, 1, 0, 0, 0, 0), (0, 1, 0, 5, 5, 0, 3), (0, 0, 5, 0, 1, 0, 2),
+        (0, 0, 5, 1, 0, 0, 7), (5, 0, 0, 0, 0, 0, 0), (0, 0, 3, 2, 7, 0, 0),
+    ),
+    (
+        (0, 1, 0, 0, 0, 0, 0), (1, 0, 1, 0, 0, 0, 0), (0, 1, 0, 1, 0, 0, 0), (0, 0, 1, 0, 1, 0, 0),
+        (0, 0, 0, 1, 0, 9, 8), (0, 0, 0, 0, 9, 0, 9), (0, 0, 0, 0, 8, 9, 0),
+    ),
+)
 
 THIRTY = 10 ** 30 - 1
+
+
+def some_purses(many):
+    """Purses without coins, in debt, uneven, and of thirty figures."""
+    yield (0,) * many
+    yield (-1,) * many
+    yield tuple(range(many))
+    yield tuple((-1) ** house * (5 * house + 2) for house in range(many))
+    yield tuple((-1) ** house * (THIRTY - house) for house in range(many))
+
+
+def by_chance(seed, many):
+    """Webs of one to seven houses with at most thirty ties, each with two purses and a script: the same each time."""
+    chance = random.Random(seed)
+    for time in range(many):
+        web = web_by_chance(chance, 1 + time % 7)
+        yield web, *[numbers_by_chance(chance, len(web)) for kind in ("one", "other", "script")]
+
+
+def web_by_chance(chance, houses):
+    rows = [[0] * houses for house in range(houses)]
+    pairs = [(chance.randrange(house), house) for house in range(1, houses)]
+    if houses > 1:
+        pairs += [chance.sample(range(houses), 2) for tie in range(chance.randrange(31 - len(pairs)))]
+    for a, b in pairs:
+        rows[a][b] = rows[b][a] = min(9, rows[a][b] + 1)
+    return tuple(map(tuple, rows))
+
+
+def numbers_by_chance(chance, many):
+    bound = chance.choice((3, 3, 40, THIRTY))
+    return tuple(chance.choice((chance.randint(-bound, bound), chance.randint(-3, 3))) for number in range(many))
+
+
+def led(web, purse, script):
+    """Where the script leads, lender by lender."""
+    coins = list(purse)
+    for lender, row in enumerate(web):
+        for other, times in enumerate(row):
+            coins[lender] -= times * script[lender]
+            coins[other] += times * script[lender]
+    return tuple(coins)
+
+
+def fire_of(web, purse, base):
+    fire = [base]
+    while True:
+        cold = [house for house in range(len(web)) if house not in fire]
+        ready = [house for house in cold if purse[house] < sum(web[other][house] for other in fire)]
+        if not ready:
+            return fire
+        fire.append(min(ready))
+
+
+@functools.lru_cache(maxsize=None)
+def inverse(web):
+    """The inverse of the web's rows without house 0."""
+    size = len(web) - 1
+    rows = [
+        [fractions.Fraction(sum(web[a]) if a == b else -web[a][b]) for b in range(1, size + 1)]
+        + [fractions.Fraction(a == b) for b in range(1, size + 1)]
+        for a in range(1, size + 1)
+    ]
+    for place in range(size):
+        rows[place] = [number / rows[place][place] for number in rows[place]]
+        for at in range(size):
+            if at != place:
+                rows[at] = [one - rows[at][place] * other for one, other in zip(rows[at], rows[place])]
+    return [row[size:] for row in rows]
+
+
+def script_between(web, one, other):
+    """The least form of the script that leads from the one to the other, by fractions; None where there is none."""
+    if sum(one) != sum(other):
+        return None
+    less = [first - second for first, second in zip(one[1:], other[1:])]
+    script = [fractions.Fraction(0)] + [sum(a * b for a, b in zip(row, less)) for row in inverse(web)]
+    if any(often.denominator != 1 for often in script):
+        return None
+    return tuple(int(often - min(script)) for often in script)
 
 
 def refusal(test, name, call, *arguments):

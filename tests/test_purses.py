@@ -2,18 +2,9 @@ import itertools
 import unittest
 
 from purseweb.purses import least, lent, minus, order_purse, plus, run, total, turned
-from tests.helper import FULL, LONE, LOPSIDED, PAIR, PATH, THICK_PAIR, THIRTY, TRIANGLE, WEBS, refusal
-
-SMALL_WEBS = [web for web in WEBS if len(web) < 5]
-
-
-def some_purses(many):
-    """Purses without coins, in debt, uneven, and of thirty figures."""
-    yield (0,) * many
-    yield (-1,) * many
-    yield tuple(range(many))
-    yield tuple((-1) ** house * (5 * house + 2) for house in range(many))
-    yield tuple((-1) ** house * (THIRTY - house) for house in range(many))
+from tests.helper import (
+    FULL, LONE, LOPSIDED, PAIR, PATH, SMALL_WEBS, THICK_PAIR, THIRTY, TRIANGLE, WEBS, refusal, some_purses,
+)
 
 
 def lent_by_hand(web, purse, house):
