@@ -9,8 +9,12 @@ def total(purse):
 
 
 def lent(web, purse, house):
-    script = tuple([1 if other == house else 0 for other in range(len(web))])
-    return run(web, purse, script)
+    return run(web, purse, one_at(web, house))
+
+
+def one_at(web, house):
+    # As a script that house's lending once, as a purse its one coin.
+    return tuple([1 if other == house else 0 for other in range(len(web))])
 
 
 def run(web, purse, script):

@@ -3,7 +3,7 @@
 from purseweb.fires import burnt, in_debt
 from purseweb.purses import least, plus, run
 from purseweb.solving import solved_below
-from purseweb.webs import ties_at
+from purseweb.squares import square_without
 
 
 def settle(web, purse, base):
@@ -23,15 +23,10 @@ def settle(web, purse, base):
 def nearing(web, purse, base):
     # Solved so that no house but the base would keep anything, and rounded down: what each house keeps then is
     # less than its ties, coins or debt, and how often houses borrow behind it doesn't grow with the purse.
-    others = [house for house in range(len(web)) if house != base]
-    rows = [row_of(web, house, others) for house in others]
-    script = solved_below(rows, [purse[house] for house in others])
+    column = purse[:base] + purse[base + 1:]
+    script = solved_below(square_without(web, base), column)
     script.insert(base, 0)
     return tuple(script)
-
-
-def row_of(web, house, others):
-    return [ties_at(web, house) if other == house else -web[house][other] for other in others]
 
 
 def borrowing(web, houses):

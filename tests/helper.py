@@ -5,6 +5,7 @@ import copy
 import fractions
 import functools
 import itertools
+import math
 import random
 
 from purseweb import errors
@@ -24,8 +25,42 @@ PATH = ((0, 1, 0), (1, 0, 1), (0, 1, 0))
 TRIANGLE = ((0, 1, 1), (1, 0, 1), (1, 1, 0))
 LOPSIDED = ((0, 1, 3, 0), (1, 0, 0, 0), (3, 0, 0, 1), (0, 0, 1, 0))
 FULL = tuple(tuple(0 if a == b else 9 for b in range(7)) for a in range(7))
+
+
+def woven(many, *ties):
+    """The web of ties (A, B, TIMES)."""
+    rows = [[0] * many for house in range(many)]
+    for a, b, times in ties:
+        rows[a][b] = rows[b][a] = times
+    return tuple(map(tuple, rows))
+
+
+def ring(many):
+    return woven(many, (0, many - 1, 1), *[(house, house + 1, 1) for house in range(many - 1)])
+
+
+def each_two_tied(many):
+    return woven(many, *[(a, b, 1) for a, b in ALL_PAIRS if b < many])
+
+
 WEBS = (LONE, PAIR, THICK_PAIR, PATH, TRIANGLE, LOPSIDED, FULL)
 SMALL_WEBS = [web for web in WEBS if len(web) < 5]
+
+# Webs of at most five houses and eight ties.
+FEW_TIES = (
+    LONE, PAIR, PATH, TRIANGLE, LOPSIDED, ring(4), ring(5), each_two_tied(4),
+    woven(2, (0, 1, 2)), woven(2, (0, 1, 5)), woven(2, (0, 1, 8)), woven(3, (0, 2, 4), (1, 2, 4)),
+    woven(3, (0, 1, 3), (0, 2, 3), (1, 2, 2)), woven(4, (0, 1, 2), (1, 2, 2), (2, 3, 2), (0, 3, 2)),
+    woven(4, (0, 3, 1), (1, 3, 2), (2, 3, 5)),
+    woven(4, (0, 1, 2), (0, 2, 1), (0, 3, 1), (1, 2, 1), (1, 3, 1), (2, 3, 2)),
+    woven(5, (0, 4, 1), (1, 4, 1), (2, 4, 1), (3, 4, 1)), woven(5, (0, 4, 2), (1, 4, 2), (2, 3, 2), (3, 4, 2)),
+    woven(5, (0, 1, 1), (0, 2, 1), (1, 2, 1), (2, 3, 1), (2, 4, 1), (3, 4, 1)),
+    woven(5, (0, 1, 1), (0, 2, 1), (0, 3, 1), (0, 4, 1), (1, 2, 1), (2, 3, 1), (3, 4, 1), (1, 4, 1)),
+    woven(5, (0, 2, 1), (0, 3, 1), (0, 4, 1), (1, 2, 1), (1, 3, 1), (1, 4, 1), (2, 3, 1), (3, 4, 1)),
+)
+
+THREE_HUNDRED_TREES = woven(6, (0, 1, 1), (0, 3, 3), (0, 4, 2), (1, 5, 1), (2, 4, 3), (2, 5, 3), (3, 4, 1))
+ONE_TREE_MORE = woven(5, (0, 1, 1), (0, 2, 3), (0, 3, 3), (0, 4, 3), (1, 3, 1), (2, 4, 2), (3, 4, 2))
 
 # Webs of seven houses and thirty ties on which much is left to be lent, even near the settled purse.
 THIRTY_TIES = (
@@ -63,11 +98,24 @@ def by_chance(seed, many):
         yield web, *[numbers_by_chance(chance, len(web)) for kind in ("one", "other", "script")]
 
 
-def web_by_chance(chance, houses):
+def few_by_chance(seed, many):
+    """Webs of one to five houses with at most eight ties, each with a purse whose total is at most eight."""
+    chance = random.Random(seed)
+    for time in range(many):
+        web = web_by_chance(chance, 1 + time % 5, 8)
+        yield web, with_total(numbers_by_chance(chance, len(web)), chance.randint(-2, 8))
+
+
+def with_total(purse, total):
+    """The purse with coins or debt for house 0, so that it has this total."""
+    return (purse[0] + total - sum(purse),) + purse[1:]
+
+
+def web_by_chance(chance, houses, most=30):
     rows = [[0] * houses for house in range(houses)]
     pairs = [(chance.randrange(house), house) for house in range(1, houses)]
     if houses > 1:
-        pairs += [chance.sample(range(houses), 2) for tie in range(chance.randrange(31 - len(pairs)))]
+        pairs += [chance.sample(range(houses), 2) for tie in range(chance.randrange(most + 1 - len(pairs)))]
     for a, b in pairs:
         rows[a][b] = rows[b][a] = min(9, rows[a][b] + 1)
     return tuple(map(tuple, rows))
@@ -124,6 +172,67 @@ def script_between(web, one, other):
     if any(often.denominator != 1 for often in script):
         return None
     return tuple(int(often - min(script)) for often in script)
+
+
+@functools.lru_cache(maxsize=None)
+def whole_inverse(web):
+    """A number, and the inverse with each of its numbers taken so often, all whole."""
+    rows = inverse(web)
+    by = math.lcm(*[number.denominator for row in rows for number in row])
+    return by, [[int(number * by) for number in row] for row in rows]
+
+
+def class_of(web, purse):
+    """Equal for two purses just where lending leads from one to the other."""
+    by, rows = whole_inverse(web)
+    return sum(purse), tuple(sum(a * b for a, b in zip(row, purse[1:])) % by for row in rows)
+
+
+def purses_without_debt(many, total):
+    """Each one with this total."""
+    if many == 1:
+        return [(total,)] if total >= 0 else []
+    firsts = range(total + 1)
+    return [(first,) + rest for first in firsts for rest in purses_without_debt(many - 1, total - first)]
+
+
+@functools.lru_cache(maxsize=None)
+def free_classes(web, total):
+    return {class_of(web, purse) for purse in purses_without_debt(len(web), total)}
+
+
+def is_free(web, purse):
+    return class_of(web, purse) in free_classes(web, sum(purse))
+
+
+def ends_of(web):
+    """The two houses of each tie, in the ties' order."""
+    return [(a, b) for a, b in ALL_PAIRS if b < len(web) for nth in range(web[a][b])]
+
+
+@functools.lru_cache(maxsize=None)
+def trees_among(web):
+    """Each choice of as many ties as a tree has, looked at by itself."""
+    ends = ends_of(web)
+    choices = itertools.combinations(range(len(ends)), len(web) - 1)
+    return [choice for choice in choices if all_come_to_one_another(len(web), [ends[tie] for tie in choice])]
+
+
+def all_come_to_one_another(many, ends):
+    houses = {0}
+    for time in range(many):
+        houses |= {house for tie in ends if houses & set(tie) for house in tie}
+    return len(houses) == many
+
+
+def new_each_time(test, call, *arguments):
+    """That the list which is told, by itself or last in a tuple, is the asker's own."""
+    told = call(*arguments)
+    kept = copy.deepcopy(told)
+    own = told if isinstance(told, list) else told[-1]
+    test.assertIs(type(own), list, arguments)
+    own[:1] = ["changed", "by the asker"]
+    test.assertEqual(call(*arguments), kept, arguments)
 
 
 def refusal(test, name, call, *arguments):

@@ -5,7 +5,7 @@ from purseweb.alike import alike
 from purseweb.settle import settle
 from tests.helper import (
     FULL, LONE, LOPSIDED, PAIR, PATH, SMALL_WEBS, THICK_PAIR, THIRTY, THIRTY_TIES, TRIANGLE, WEBS, by_chance, led,
-    script_between, some_purses,
+    script_between, some_purses, with_total,
 )
 
 
@@ -85,7 +85,7 @@ class AlikeTest(unittest.TestCase):
 
     def test_purses_of_one_total_by_chance(self):
         for web, one, other, script in by_chance(32, 500):
-            other = (other[0] + sum(one) - sum(other),) + other[1:]
+            other = with_total(other, sum(one))
             self.assertEqual(alike(web, one, other), script_between(web, one, other), (web, one, other))
 
     def test_just_where_the_settled_purses_are_equal(self):

@@ -4,22 +4,9 @@ import unittest
 from purseweb.clear import cleared
 from purseweb.webs import loops
 from tests.helper import (
-    LONE, LOPSIDED, PAIR, PATH, SMALL_WEBS, THICK_PAIR, THIRTY, THIRTY_TIES, TRIANGLE, WEBS, by_chance, led,
-    script_between, some_purses,
+    LONE, LOPSIDED, PAIR, PATH, SMALL_WEBS, THICK_PAIR, THIRTY, THIRTY_TIES, TRIANGLE, WEBS, by_chance, is_free, led,
+    new_each_time, some_purses, with_total,
 )
-
-
-def purses_without_debt(many, total):
-    """Each one with this total."""
-    if many == 1:
-        return [(total,)] if total >= 0 else []
-    firsts = range(total + 1)
-    return [(first,) + rest for first in firsts for rest in purses_without_debt(many - 1, total - first)]
-
-
-def is_free(web, purse):
-    targets = purses_without_debt(len(web), sum(purse))
-    return any(script_between(web, purse, target) is not None for target in targets)
 
 
 def ties_from(web, house, others):
@@ -92,7 +79,7 @@ class ClearedTest(unittest.TestCase):
         for web in WEBS + THIRTY_TIES:
             for purse in some_purses(len(web)):
                 for total in (-THIRTY, -1, 0, 1, 3, loops(web) // 2, loops(web) - 1):
-                    words.append(self.word(web, (purse[0] + total - sum(purse),) + purse[1:]))
+                    words.append(self.word(web, with_total(purse, total)))
         self.assertGreater(words.count("free"), 20)
         self.assertGreater(words.count("never"), 20)
 
@@ -100,7 +87,7 @@ class ClearedTest(unittest.TestCase):
         words = []
         for web, one, other, script in by_chance(41, 700):
             for total in (-1, 0, loops(web) // 2, loops(web) - 1):
-                words.append(self.word(web, (one[0] + total - sum(one),) + one[1:]))
+                words.append(self.word(web, with_total(one, total)))
             words.append(self.word(web, other))
         self.assertGreater(words.count("free"), 300)
         self.assertGreater(words.count("never"), 300)
@@ -108,12 +95,12 @@ class ClearedTest(unittest.TestCase):
     def test_a_total_below_0_is_never_free(self):
         for web, one, other, script in by_chance(42, 300):
             for total in (-1, -2, -THIRTY):
-                self.assertEqual(self.word(web, (one[0] + total - sum(one),) + one[1:]), "never")
+                self.assertEqual(self.word(web, with_total(one, total)), "never")
 
     def test_a_total_of_the_loops_or_more_is_free(self):
         for web, one, other, script in by_chance(43, 300):
             for total in (loops(web), loops(web) + 1, THIRTY):
-                self.assertEqual(self.word(web, (one[0] + total - sum(one),) + one[1:]), "free")
+                self.assertEqual(self.word(web, with_total(one, total)), "free")
 
     def test_a_purse_without_debt_is_free(self):
         for web, one, other, script in by_chance(44, 300):
@@ -122,19 +109,14 @@ class ClearedTest(unittest.TestCase):
     def test_told_alike_of_what_comes_by_lending(self):
         for web, one, other, script in by_chance(45, 300):
             for total in (0, loops(web) // 2, loops(web) - 1):
-                purse = (one[0] + total - sum(one),) + one[1:]
+                purse = with_total(one, total)
                 self.assertEqual(self.word(web, led(web, purse, script)), self.word(web, purse))
 
     def test_the_order_is_a_new_list_each_time(self):
         for web in WEBS:
             purse = (-1,) * len(web)
-            told = cleared(web, purse)
-            kept = (told[0], told[1], list(told[2]))
-            self.assertEqual(told[0], "never")
-            told[2].append("changed by the asker")
-            again = cleared(web, purse)
-            self.assertEqual(again, kept)
-            self.assertIsNot(again[2], told[2])
+            self.assertEqual(cleared(web, purse)[0], "never")
+            new_each_time(self, cleared, web, purse)
 
 
 if __name__ == "__main__":

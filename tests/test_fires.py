@@ -3,7 +3,8 @@ import unittest
 
 from purseweb.fires import burnt, is_settled
 from tests.helper import (
-    FULL, LONE, LOPSIDED, PAIR, PATH, SMALL_WEBS, THICK_PAIR, THIRTY, TRIANGLE, WEBS, by_chance, fire_of, some_purses,
+    FULL, LONE, LOPSIDED, PAIR, PATH, SMALL_WEBS, THICK_PAIR, THIRTY, TRIANGLE, WEBS, by_chance, fire_of,
+    new_each_time, some_purses,
 )
 
 
@@ -93,14 +94,7 @@ class BurntTest(unittest.TestCase):
     def test_a_new_list_each_time(self):
         for web in WEBS:
             for base in range(len(web)):
-                purse = (0,) * len(web)
-                told = burnt(web, purse, base)
-                kept = list(told)
-                self.assertIs(type(told), list)
-                told.append("changed by the asker")
-                again = burnt(web, purse, base)
-                self.assertEqual(again, kept)
-                self.assertIsNot(again, told)
+                new_each_time(self, burnt, web, (0,) * len(web), base)
 
 
 class IsSettledTest(unittest.TestCase):

@@ -64,8 +64,46 @@ def faults_of_text(text):
         yield "L10: too long"
 
 
+def called(node):
+    return node.func.id if isinstance(node, ast.Call) and isinstance(node.func, ast.Name) else None
+
+
+def in_their_place(tree):
+    """What is walked on the spot or asked with `in`, each with its parts where it is put together of several."""
+    for node in ast.walk(tree):
+        if isinstance(node, (ast.For, ast.comprehension)):
+            yield "walked", node.iter
+        elif isinstance(node, ast.Compare):
+            yield from [("set", part) for part in (node.left, *node.comparators)]
+        elif called(node) in ("list", "tuple", "dict", "sorted", "sum", "any", "all", "enumerate", "zip"):
+            yield from [("walked", part) for part in node.args[:1]]
+        elif called(node) in ("min", "max") and len(node.args) == 1:
+            yield "walked", node.args[0]
+        if called(node) == "zip":
+            yield from [("walked", part) for part in node.args]
+        if called(node) in ("sorted", "len") and not node.keywords:
+            yield from [("set", part) for part in ast.walk(node.args[0])]
+
+
+def faults_of_places(tree):
+    places = [(place, id(node)) for place, node in in_their_place(tree)]
+    for node in ast.walk(tree):
+        method = isinstance(node, ast.Call) and isinstance(node.func, ast.Attribute) and node.func.attr
+        if called(node) in ("zip", "enumerate", "reversed", "range") or method in ("items", "keys", "values"):
+            if ("walked", id(node)) not in places:
+                yield "L23: not walked on the spot"
+        if called(node) in ("set", "frozenset") and ("set", id(node)) not in places:
+            yield "L24: a set that is kept or walked"
+
+
 def faults_of_names(tree):
+    imported = [alias.name for node in tree.body if isinstance(node, ast.ImportFrom) for alias in node.names]
+    tops = [node.name for node in tree.body if isinstance(node, (ast.FunctionDef, ast.ClassDef))] + imported
+    if len(tops) > len(set(tops)):
+        yield "L15: a name bound twice"
     for name in bound_names(tree):
+        if name in imported:
+            yield f"L15: {name}"
         if name.startswith("_") and name not in TWO_UNDERSCORES:
             yield f"L12: {name}"
         if hasattr(builtins, name) and name not in TWO_UNDERSCORES:
@@ -125,6 +163,7 @@ def faults_of_statements(tree):
 def faults(text):
     tree = ast.parse(text)
     told = list(faults_of_text(text)) + list(faults_of_names(tree)) + list(faults_of_statements(tree))
+    told.extend(faults_of_places(tree))
     for node in ast.walk(tree):
         told.extend(faults_of_node(node))
     return told
@@ -166,6 +205,11 @@ class FormTest(unittest.TestCase):
             "def f():\n    for a in b:\n        pass\n    else:\n        pass",
             "def f():\n    try:\n        pass\n    finally:\n        pass", "def f():\n" + "    f()\n" * 40,
             "# " + "a" * 120, "a = 1\n" * 401, "a = (b := 1)", "a = [*b]", "a = b'c'",
+            "from purseweb.webs import loops\ndef f(loops):\n    return 1",
+            "from purseweb.webs import loops\ndef f():\n    loops = 1", "def f():\n    pass\ndef f():\n    pass",
+            "def f(a):\n    return reversed(a)", "def f(a):\n    b = a.items()", "def f(a):\n    b = range(a)[1]",
+            "def f(a):\n    for b in set(a):\n        pass", "def f(a):\n    return set(a)",
+            "def f(a):\n    return min(range(a), 3)",
         ):
             with self.subTest(text[:80]):
                 self.assertNotEqual(faults('"""A file."""\n' + text), [])

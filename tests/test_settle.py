@@ -5,7 +5,7 @@ from purseweb.fires import is_settled
 from purseweb.settle import settle
 from tests.helper import (
     LONE, LOPSIDED, PAIR, SMALL_WEBS, THICK_PAIR, THIRTY, THIRTY_TIES, TRIANGLE, WEBS, by_chance, fire_of, led,
-    some_purses,
+    new_each_time, some_purses,
 )
 
 
@@ -104,16 +104,10 @@ class SettleTest(unittest.TestCase):
             for base in range(len(web)):
                 self.assertEqual(settle(web, led(web, one, script), base)[1:], settle(web, one, base)[1:])
 
-    def test_told_again_when_the_told_list_was_changed(self):
+    def test_the_fire_is_a_new_list_each_time(self):
         for web in WEBS:
             for base in range(len(web)):
-                purse = (3,) * len(web)
-                told = settle(web, purse, base)
-                kept = (told[0], told[1], list(told[2]))
-                told[2].append("changed by the asker")
-                again = settle(web, purse, base)
-                self.assertEqual(again, kept)
-                self.assertIsNot(again[2], told[2])
+                new_each_time(self, settle, web, (3,) * len(web), base)
 
 
 if __name__ == "__main__":

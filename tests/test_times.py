@@ -1,4 +1,4 @@
-"""Purses of thirty figures take no longer a time than small ones."""
+"""Purses of thirty figures take no longer a time than small ones; nor does it take long to count many trees."""
 
 import itertools
 import time
@@ -7,7 +7,11 @@ import unittest
 from purseweb.alike import alike
 from purseweb.clear import cleared
 from purseweb.settle import settle
-from tests.helper import THIRTY, THIRTY_TIES, led
+from purseweb.spare import spare
+from purseweb.stills import back, joined, still_of, stills, tree_of
+from purseweb.trees import tree_count, trees
+from purseweb.webs import loops
+from tests.helper import FEW_TIES, FULL, THIRTY, THIRTY_TIES, led, refusal, with_total
 
 SMALL_PART = 0.1
 
@@ -22,8 +26,8 @@ def seconds(call, *arguments):
     return min(tries)
 
 
-def great_purses():
-    for signs in itertools.islice(itertools.product((-1, 1), repeat=7), 0, None, 9):
+def great_purses(many=7):
+    for signs in itertools.islice(itertools.product((-1, 1), repeat=many), 0, None, 9):
         yield tuple(sign * (THIRTY - house) for house, sign in enumerate(signs))
 
 
@@ -42,7 +46,7 @@ class TimesTest(unittest.TestCase):
         for web in THIRTY_TIES:
             for purse in great_purses():
                 for total in (-1, 0, sum(purse)):
-                    evened = (purse[0] + total - sum(purse),) + purse[1:]
+                    evened = with_total(purse, total)
                     self.assertLess(seconds(cleared, web, evened), SMALL_PART, (web, evened))
 
     def test_held_against_one_another(self):
@@ -52,6 +56,33 @@ class TimesTest(unittest.TestCase):
                 unlike = (purse[0] + 1,) + purse[1:-1] + (purse[-1] - 1,)
                 for other in (reached, unlike, (0,) * 7):
                     self.assertLess(seconds(alike, web, purse, other), SMALL_PART, (web, purse, other))
+
+    def test_spared(self):
+        for web in FEW_TIES:
+            for purse in great_purses(len(web)):
+                for total in (-THIRTY, -1, 0, loops(web) - 1, loops(web), 2 * loops(web) - 2, 8, sum(purse)):
+                    evened = with_total(purse, total)
+                    self.assertLess(seconds(spare, web, evened), SMALL_PART, (web, evened))
+
+    def test_trees_counted(self):
+        for web in THIRTY_TIES + (FULL,):
+            self.assertLess(seconds(tree_count, web), SMALL_PART, web)
+
+    def test_many_more_trees_than_most_are_refused_without_telling_them(self):
+        for most in (0, 300, 10 ** 9):
+            for call, arguments in ((trees, (FULL, most)), (stills, (FULL, 3, most))):
+                self.assertLess(seconds(refusal, self, "TooMany", call, *arguments), SMALL_PART, (call, most))
+
+    def test_trees_and_still_purses_of_webs_with_many_trees(self):
+        for web in THIRTY_TIES:
+            for purse in great_purses():
+                base = 3
+                settled = settle(web, purse, base)[1]
+                still = settled[:base] + (0,) + settled[base + 1:]
+                self.assertLess(seconds(tree_of, web, base, settled), SMALL_PART, (web, settled))
+                self.assertLess(seconds(still_of, web, base, tree_of(web, base, still)), SMALL_PART, (web, still))
+                self.assertLess(seconds(joined, web, base, still, still), SMALL_PART, (web, still))
+                self.assertLess(seconds(back, web, base, still), SMALL_PART, (web, still))
 
 
 if __name__ == "__main__":

@@ -2,7 +2,7 @@ import itertools
 import unittest
 
 from purseweb.webs import loops, ties_at, ties_of, web_of
-from tests.helper import ALL_PAIRS, FULL, LONE, LOPSIDED, PAIR, PATH, THICK_PAIR, TRIANGLE, WEBS, refusal
+from tests.helper import ALL_PAIRS, FULL, LONE, LOPSIDED, PAIR, PATH, THICK_PAIR, TRIANGLE, WEBS, new_each_time, refusal
 
 
 def ties_told(web):
@@ -150,11 +150,7 @@ class TiesTest(unittest.TestCase):
 
     def test_ties_are_a_new_list_each_time(self):
         for web in WEBS:
-            told = ties_of(web)
-            kept = list(told)
-            told.append("changed by the asker")
-            self.assertEqual(ties_of(web), kept)
-            self.assertIsNot(ties_of(web), ties_of(web))
+            new_each_time(self, ties_of, web)
 
     def test_loops(self):
         self.assertEqual([loops(web) for web in (LONE, PAIR, THICK_PAIR, PATH, TRIANGLE, LOPSIDED)], [0, 0, 8, 0, 1, 2])
