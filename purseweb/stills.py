@@ -11,8 +11,11 @@ from purseweb.webs import ties_of
 def tree_of(web, base, purse):
     if not is_settled(web, purse, base):
         raise NotSettled(f"not settled at {base}: {purse}")
-    burning = walked(web, base, lambda tie, house, seen: purse[house] < seen)
-    return tuple(sorted([burnt_by[0] for burnt_by in burning]))
+    return tree_by(web, base, lambda tie, house, seen: purse[house] < seen)
+
+
+def tree_by(web, base, burns):
+    return tuple(sorted([burnt_by[0] for burnt_by in walked(web, base, burns)]))
 
 
 def walked(web, base, burns):

@@ -59,6 +59,17 @@ FEW_TIES = (
     woven(5, (0, 2, 1), (0, 3, 1), (0, 4, 1), (1, 2, 1), (1, 3, 1), (1, 4, 1), (2, 3, 1), (3, 4, 1)),
 )
 
+# Webs of six houses and twelve ties.
+TWELVE_TIES = (
+    woven(6, (0, 3, 1), (0, 5, 1), (1, 4, 1), (2, 5, 1), *[(a, a + 1, 1) for a in range(5)], (0, 2, 2), (1, 3, 1)),
+    woven(6, *[(a, b, 1) for a, b in ALL_PAIRS if b < 6 and b - a != 3]),
+    woven(6, (0, 5, 8), (0, 1, 1), (1, 2, 1), (2, 3, 1), (3, 4, 1)),
+    woven(6, (0, 1, 1), (1, 2, 1), (2, 3, 1), (3, 4, 1), (4, 5, 8)),
+    woven(6, (0, 1, 4), (1, 2, 1), (2, 3, 1), (3, 4, 1), (4, 5, 5)),
+    woven(6, (0, 3, 2), (1, 3, 3), (2, 4, 2), (3, 4, 1), (4, 5, 4)),
+    woven(6, (0, 1, 2), (1, 2, 2), (2, 3, 2), (3, 4, 2), (4, 5, 2), (0, 5, 2)),
+)
+
 THREE_HUNDRED_TREES = woven(6, (0, 1, 1), (0, 3, 3), (0, 4, 2), (1, 5, 1), (2, 4, 3), (2, 5, 3), (3, 4, 1))
 ONE_TREE_MORE = woven(5, (0, 1, 1), (0, 2, 3), (0, 3, 3), (0, 4, 3), (1, 3, 1), (2, 4, 2), (3, 4, 2))
 
@@ -76,6 +87,12 @@ THIRTY_TIES = (
         (0, 1, 0, 0, 0, 0, 0), (1, 0, 1, 0, 0, 0, 0), (0, 1, 0, 1, 0, 0, 0), (0, 0, 1, 0, 1, 0, 0),
         (0, 0, 0, 1, 0, 9, 8), (0, 0, 0, 0, 9, 0, 9), (0, 0, 0, 0, 8, 9, 0),
     ),
+)
+
+# Seven houses and thirty ties, with 131345 trees and a purse whose round is as great: (1, -1, 0, 0, 0, 0, 0).
+GREAT_ROUND = (
+    (0, 2, 2, 1, 1, 2, 1), (2, 0, 1, 2, 1, 1, 1), (2, 1, 0, 2, 1, 2, 1), (1, 2, 2, 0, 1, 1, 1),
+    (1, 1, 1, 1, 0, 1, 3), (2, 1, 2, 1, 1, 0, 2), (1, 1, 1, 1, 3, 2, 0),
 )
 
 THIRTY = 10 ** 30 - 1
@@ -104,6 +121,15 @@ def few_by_chance(seed, many):
     for time in range(many):
         web = web_by_chance(chance, 1 + time % 5, 8)
         yield web, with_total(numbers_by_chance(chance, len(web)), chance.randint(-2, 8))
+
+
+def twelve_by_chance(seed, many):
+    """Webs of one to six houses with at most twelve ties, each with a purse whose total is the loops, and a script."""
+    chance = random.Random(seed)
+    for time in range(many):
+        web = web_by_chance(chance, 1 + time % 6, 12)
+        purse, script = [numbers_by_chance(chance, len(web)) for kind in ("purse", "script")]
+        yield web, with_total(purse, loops_of(web)), script
 
 
 def with_total(purse, total):
@@ -205,6 +231,23 @@ def is_free(web, purse):
     return class_of(web, purse) in free_classes(web, sum(purse))
 
 
+def one_of_each_class(web, total):
+    """Purses of this total, one of each class of those that lead to one another."""
+    found = {}
+    for rest in itertools.product(*[range(sum(row)) for row in web[1:]]):
+        purse = with_total((0,) + rest, total)
+        found.setdefault(class_of(web, purse), purse)
+    return list(found.values())
+
+
+def unit(size):
+    return tuple(tuple(int(row == column) for column in range(size)) for row in range(size))
+
+
+def loops_of(web):
+    return len(ends_of(web)) - len(web) + 1
+
+
 def ends_of(web):
     """The two houses of each tie, in the ties' order."""
     return [(a, b) for a, b in ALL_PAIRS if b < len(web) for nth in range(web[a][b])]
@@ -223,6 +266,23 @@ def all_come_to_one_another(many, ends):
     for time in range(many):
         houses |= {house for tie in ends if houses & set(tie) for house in tie}
     return len(houses) == many
+
+
+def ends_outside(web, tree):
+    """The two houses of each tie that is not in the tree, in the ties' order."""
+    return [both for tie, both in enumerate(ends_of(web)) if tie not in tree]
+
+
+def coins_at(web, ends):
+    """A coin at each end."""
+    return tuple(list(ends).count(house) for house in range(len(web)))
+
+
+@functools.lru_cache(maxsize=None)
+def breaks_among(web):
+    """Each purse that is made of a tree and ends."""
+    choices = {ends for tree in trees_among(web) for ends in itertools.product(*ends_outside(web, tree))}
+    return sorted({coins_at(web, ends) for ends in choices})
 
 
 def new_each_time(test, call, *arguments):

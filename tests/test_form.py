@@ -160,13 +160,108 @@ def faults_of_statements(tree):
             yield "L6: an expression by itself"
 
 
+def is_plain(node, functions):
+    """A whole number, a text, a truth, None, or a list, tuple or dict of these and of functions."""
+    if isinstance(node, (ast.List, ast.Tuple)):
+        return all(is_plain(part, functions) for part in node.elts)
+    if isinstance(node, ast.Dict):
+        return all(part is not None and is_plain(part, functions) for part in node.keys + node.values)
+    if isinstance(node, ast.UnaryOp):
+        return isinstance(node.op, ast.USub) and isinstance(node.operand, ast.Constant)
+    return isinstance(node, ast.Constant) or isinstance(node, ast.Name) and node.id in functions
+
+
+def only_read(node, above):
+    """Whether a list or dict of the top is only read where its name stands."""
+    if isinstance(above, ast.Subscript):
+        return isinstance(above.ctx, ast.Load)
+    if isinstance(above, ast.Attribute):
+        return above.attr in ("get", "items", "keys", "values", "index", "count")
+    if isinstance(above, (ast.For, ast.comprehension)):
+        return above.iter is node
+    return isinstance(above, ast.Compare) or called(above) in ("len", "list", "tuple", "dict", "sorted", "enumerate")
+
+
+def faults_of_tops(tree):
+    functions = []
+    kept = []
+    for part in tree.body:
+        if isinstance(part, ast.FunctionDef):
+            functions.append(part.name)
+        if isinstance(part, ast.Assign):
+            if not is_plain(part.value, functions):
+                yield "L3: no plain value at the top"
+            if isinstance(part.value, (ast.List, ast.Dict)):
+                kept.extend(target.id for target in part.targets)
+                inner = [node for node in ast.walk(part.value) if isinstance(node, (ast.List, ast.Dict))]
+                if len(inner) > 1:
+                    yield "L15: a list or dict within another one"
+    for above in ast.walk(tree):
+        for node in ast.iter_child_nodes(above):
+            if isinstance(node, ast.Name) and node.id in kept and isinstance(node.ctx, ast.Load):
+                if not only_read(node, above):
+                    yield f"L15: {node.id} is not only read"
+
+
+def faults_of_classes(tree):
+    """Classes are the names that begin with a capital and don't go on so."""
+    for above in ast.walk(tree):
+        for node in ast.iter_child_nodes(above):
+            if isinstance(node, ast.Name) and node.id[0].isupper() and not node.id.isupper():
+                base = isinstance(above, (ast.ClassDef, ast.ExceptHandler))
+                made = isinstance(above, ast.Call) and (above.func is node or called(above) == "isinstance")
+                first = isinstance(above, ast.Attribute) and above.attr == "__init__"
+                if not (base or made or first):
+                    yield f"L18: {node.id}"
+
+
+def faults_of_errors(node):
+    if isinstance(node, ast.ExceptHandler):
+        wide = ("Exception", "TypeError", "ValueError", "LookupError", "IndexError")
+        if not isinstance(node.type, ast.Name) or node.type.id in wide:
+            yield "L19: what is taken"
+    if isinstance(node, ast.Raise):
+        cause = node.cause
+        if not isinstance(node.exc, ast.Call) or not (cause is None or isinstance(cause, (ast.Name, ast.Constant))):
+            yield "L19: what is raised"
+
+
+def faults_of_calls(node):
+    if isinstance(node, ast.Call) and node.keywords:
+        allowed = {
+            "sorted": ("key", "reverse"), "min": ("key", "default"), "max": ("key", "default"), "sum": ("start",),
+            "enumerate": ("start",), "zip": ("strict",),
+        }.get(called(node), ())
+        if any(keyword.arg not in allowed for keyword in node.keywords):
+            yield "L22: a keyword"
+    if isinstance(node, (ast.arg, ast.FunctionDef)):
+        if getattr(node, "annotation", None) or getattr(node, "returns", None):
+            yield "L21: an annotation"
+    if isinstance(node, ast.BinOp) and isinstance(node.op, ast.Pow) and not isinstance(node.right, ast.Constant):
+        yield "L27: a power"
+    if isinstance(node, ast.Constant) and isinstance(node.value, str) and "%" in node.value:
+        yield "L27: a sign within a text"
+
+
 def faults(text):
     tree = ast.parse(text)
     told = list(faults_of_text(text)) + list(faults_of_names(tree)) + list(faults_of_statements(tree))
     told.extend(faults_of_places(tree))
+    told.extend(faults_of_tops(tree))
+    told.extend(faults_of_classes(tree))
     for node in ast.walk(tree):
         told.extend(faults_of_node(node))
+        told.extend(faults_of_errors(node))
+        told.extend(faults_of_calls(node))
     return told
+
+
+def kept_in_classes(tree):
+    """The names of the methods of a file's classes, and those of the values of its objects."""
+    classes = [node for node in tree.body if isinstance(node, ast.ClassDef)]
+    methods = [part.name for node in classes for part in node.body if isinstance(part, ast.FunctionDef)]
+    stores = [node for node in ast.walk(tree) if isinstance(node, ast.Attribute) and isinstance(node.ctx, ast.Store)]
+    return {name for name in methods if name != "__init__"}, {node.attr for node in stores}
 
 
 def drawn_from(path):
@@ -193,6 +288,14 @@ class FormTest(unittest.TestCase):
             self.assertTrue(free, drawn)
             drawn = {name: sources for name, sources in drawn.items() if name not in free}
 
+    def test_no_method_is_called_like_a_value_of_an_object(self):
+        kept = [kept_in_classes(ast.parse(path.read_text(encoding="ascii"))) for path in PACKAGE.glob("*.py")]
+        methods = set().union(*[pair[0] for pair in kept])
+        values = set().union(*[pair[1] for pair in kept])
+        self.assertEqual(methods & values, set())
+        self.assertIn("say", methods)
+        self.assertIn("place", values)
+
     def test_code_outside_the_form_is_seen(self):
         for text in (
             "import os", "from os import path", "from .errors import NoWeb", "from purseweb.errors import *",
@@ -209,7 +312,15 @@ class FormTest(unittest.TestCase):
             "from purseweb.webs import loops\ndef f():\n    loops = 1", "def f():\n    pass\ndef f():\n    pass",
             "def f(a):\n    return reversed(a)", "def f(a):\n    b = a.items()", "def f(a):\n    b = range(a)[1]",
             "def f(a):\n    for b in set(a):\n        pass", "def f(a):\n    return set(a)",
-            "def f(a):\n    return min(range(a), 3)",
+            "def f(a):\n    return min(range(a), 3)", "a = f()", "a = [[1]]", "a = {1: []}", "a = {1: {}}",
+            "a = [1]\ndef f():\n    a.append(2)", "a = [1]\ndef f():\n    a[0] = 2", "a = {}\ndef f():\n    return a",
+            "a = [1]\ndef f():\n    g(a)", "class Any:\n    pass\ndef f():\n    return Any",
+            "class Any:\n    pass\ndef f():\n    return [Any]",
+            "def f():\n    try:\n        g()\n    except:\n        pass",
+            "def f():\n    try:\n        g()\n    except Exception:\n        pass",
+            "def f():\n    try:\n        g()\n    except (KeyError, NoText):\n        pass", "def f():\n    raise a",
+            "def f():\n    raise", "def f(a):\n    return g(a, b=1)", "def f(a):\n    return a.split(sep=' ')",
+            "def f(a: int):\n    return 1", "def f(a) -> int:\n    return 1", "def f(n):\n    return 2 ** n", "a = '%'",
         ):
             with self.subTest(text[:80]):
                 self.assertNotEqual(faults('"""A file."""\n' + text), [])

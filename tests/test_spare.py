@@ -1,12 +1,11 @@
-import itertools
 import unittest
 
 from purseweb.purses import turned
 from purseweb.spare import spare
 from purseweb.webs import loops
 from tests.helper import (
-    FEW_TIES, LONE, PAIR, THIRTY, THIRTY_TIES, TRIANGLE, class_of, each_two_tied, few_by_chance, is_free, led,
-    new_each_time, purses_without_debt, some_purses, with_total, woven,
+    FEW_TIES, LONE, PAIR, THIRTY, THIRTY_TIES, TRIANGLE, each_two_tied, few_by_chance, is_free, led,
+    new_each_time, one_of_each_class, purses_without_debt, some_purses, with_total, woven,
 )
 
 
@@ -17,15 +16,6 @@ def order_purse_of(web, order):
 
 def less(one, other):
     return tuple(a - b for a, b in zip(one, other))
-
-
-def one_of_each_class(web, total):
-    """Purses of this total, one of each class of those that lead to one another."""
-    found = {}
-    for rest in itertools.product(*[range(sum(row)) for row in web[1:]]):
-        purse = with_total((0,) + rest, total)
-        found.setdefault(class_of(web, purse), purse)
-    return list(found.values())
 
 
 def with_one_more(purse, house):

@@ -3,12 +3,8 @@ import unittest
 
 from purseweb.squares import multiplied, square_of
 from tests.helper import (
-    FULL, LONE, LOPSIDED, PAIR, PATH, THICK_PAIR, THIRTY, THIRTY_TIES, TRIANGLE, WEBS, by_chance, inverse,
+    FULL, LONE, LOPSIDED, PAIR, PATH, THICK_PAIR, THIRTY, THIRTY_TIES, TRIANGLE, WEBS, by_chance, inverse, unit,
 )
-
-
-def unit(size):
-    return tuple(tuple(int(row == column) for column in range(size)) for row in range(size))
 
 
 def some_squares(size):

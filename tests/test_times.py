@@ -5,13 +5,19 @@ import time
 import unittest
 
 from purseweb.alike import alike
+from purseweb.breaks import broken, lacking
 from purseweb.clear import cleared
+from purseweb.desk import Desk
+from purseweb.parts import parts, place_of, round_of
 from purseweb.settle import settle
 from purseweb.spare import spare
 from purseweb.stills import back, joined, still_of, stills, tree_of
+from purseweb.texts import shown_numbers, shown_web
 from purseweb.trees import tree_count, trees
 from purseweb.webs import loops
-from tests.helper import FEW_TIES, FULL, THIRTY, THIRTY_TIES, led, refusal, with_total
+from tests.helper import (
+    FEW_TIES, FULL, GREAT_ROUND, THIRTY, THIRTY_TIES, TWELVE_TIES, led, refusal, with_total,
+)
 
 SMALL_PART = 0.1
 
@@ -83,6 +89,44 @@ class TimesTest(unittest.TestCase):
                 self.assertLess(seconds(still_of, web, base, tree_of(web, base, still)), SMALL_PART, (web, still))
                 self.assertLess(seconds(joined, web, base, still, still), SMALL_PART, (web, still))
                 self.assertLess(seconds(back, web, base, still), SMALL_PART, (web, still))
+
+    def test_parts_places_and_rounds(self):
+        for web in THIRTY_TIES + (FULL, GREAT_ROUND):
+            self.assertLess(seconds(parts, web), SMALL_PART, web)
+            for purse in great_purses():
+                self.assertLess(seconds(place_of, web, purse), SMALL_PART, (web, purse))
+                self.assertLess(seconds(round_of, web, with_total(purse, 0)), SMALL_PART, (web, purse))
+        self.assertEqual(round_of(GREAT_ROUND, (1, -1, 0, 0, 0, 0, 0)), 131345)
+
+    def test_led_to_break_purses(self):
+        for web in TWELVE_TIES + THIRTY_TIES + (GREAT_ROUND,):
+            for purse in great_purses(len(web)):
+                evened = with_total(purse, loops(web))
+                self.assertLess(seconds(broken, web, evened), SMALL_PART, (web, evened))
+                self.assertLess(seconds(lacking, web, evened), SMALL_PART, (web, evened))
+
+    def test_at_a_desk(self):
+        for web in (TWELVE_TIES[0], TWELVE_TIES[2], THIRTY_TIES[0], GREAT_ROUND):
+            desk = Desk()
+            desk.say("web " + shown_web(web))
+            for purse in great_purses(len(web)):
+                desk.say("purse a " + shown_numbers(purse))
+                desk.say("purse b " + shown_numbers(with_total((0,) * len(web), loops(web))))
+                for row in (
+                    f"lend b 1 {10 ** 29}", f"lend b 0 -{THIRTY}", f"run b {shown_numbers(purse)}", "settle a 1",
+                    "clear a", "clear b", "alike a b", "alike b b", "break b", "plus a a b", "turn a a", "show a",
+                    "total a", "trees",
+                ):
+                    self.assertLess(seconds(desk.say, row), SMALL_PART, (web, purse, row))
+
+    def test_spared_at_a_desk(self):
+        for web in FEW_TIES:
+            desk = Desk()
+            desk.say("web " + shown_web(web))
+            for house in range(len(web)):
+                desk.say("purse a " + shown_numbers(with_total((0,) * len(web), loops(web) - 1)))
+                desk.say(f"lend a {house} {THIRTY}")
+                self.assertLess(seconds(desk.say, "spare a"), SMALL_PART, (web, house))
 
 
 if __name__ == "__main__":
